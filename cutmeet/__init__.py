@@ -1,0 +1,1 @@
+"""Webs of one-way ties, their one-way cuts, and the fewest ties that meet them all."""

@@ -1,0 +1,127 @@
+"""Webs and odd things that several tests use, and slow plain ways to know the right answer."""
+
+import itertools
+import random
+
+from cutmeet.webs import Web
+
+
+class Stubborn:
+    """A thing that can't be compared, hashed, measured, walked or asked for its truth."""
+
+    def refuse(self, *others):
+        raise RuntimeError("asked")
+
+    __eq__ = __ne__ = __lt__ = __gt__ = __le__ = __ge__ = refuse
+    __hash__ = __len__ = __iter__ = __bool__ = __getitem__ = __contains__ = refuse
+    __int__ = __index__ = __str__ = refuse
+
+
+def endless():
+    """A list that holds itself."""
+    thing = []
+    thing.append(thing)
+    return thing
+
+
+def odd_things():
+    """Things that are no name, no place, no number of a tie, no cut, no web's text."""
+    return [
+        None, True, False, -1, 99, 10 ** 40, "", "A", "a1", "a b", "a\n", "\n", " ", "toolongname", "\u00e4", "\ud800",
+        b"a", b"", [], ["a"], [0], [[]], (), (0,), (None,), ([],), ({},), (True,), ("a", None), ("a", []), ("a", {}),
+        ((),), {}, {"a": 1}, {"a"}, frozenset("a"), range(2), object(), Stubborn(), (Stubborn(),), ("a", Stubborn()),
+        [Stubborn()], endless(), (endless(),), len, str, ValueError("a"), Web(["a"], []), iter("a"), 1j, bytearray(b"a"),
+    ]
+
+
+def make(places, ties):
+    """A web of places and ties told as words: make("a b c", "ab bc")."""
+    return Web(places.split(), [(tie[0], tie[1]) for tie in ties.split()])
+
+
+def named_webs():
+    """Webs of the forms that are worth a look each."""
+    return [
+        make("a", ""),
+        make("a", "aa aa"),
+        make("a b", ""),
+        make("a b", "ab"),
+        make("a b", "ab ba"),
+        make("b a", "ab ab bb"),
+        make("a b c", "ab bc ca"),
+        make("c b a", "ab cb"),
+        make("a b c", "ba bc"),
+        make("a b c d", "ab ba cd"),
+        make("a b c d", "ab bc cd"),
+        make("d a c b", "ab ba bc cd dc dd"),
+        make("a b c d e", "ab cb cd ed"),
+        make("a b c d e", "ab bc ca cd de ed ab"),
+        make("a b c d e f", "ab bc ca de ef"),
+        Web(["z", "aa", "a", "longname"], [("z", "aa"), ("a", "aa"), ("longname", "z")]),
+    ]
+
+
+def chance_web(chance, most=7, ties=14):
+    """A web that a seeded source picks."""
+    letters = "abcdefghijkl"[:chance.randint(1, most)]
+    places = [letter * chance.randint(1, 3) for letter in letters]
+    chance.shuffle(places)
+    many = chance.randint(0, ties)
+    return Web(places, [(chance.choice(places), chance.choice(places)) for each in range(many)])
+
+
+def chance_webs(seed, many, most=7, ties=14):
+    chance = random.Random(seed)
+    return [chance_web(chance, most, ties) for each in range(many)]
+
+
+def all_webs(seed=1, many=120):
+    return named_webs() + chance_webs(seed, many)
+
+
+def plain_reach(places, ties):
+    """Which pairs (a, b) there are such that a reaches b, with the fewest ties that it takes."""
+    far = {(a, b): 0 if a == b else 99 for a in places for b in places}
+    for a, b in ties:
+        if a != b:
+            far[a, b] = 1
+    for via, a, b in itertools.product(places, repeat=3):
+        far[a, b] = min(far[a, b], far[a, via] + far[via, b])
+    return {pair: steps for pair, steps in far.items() if steps < 99}
+
+
+def both_ways(ties):
+    return ties + [(b, a) for a, b in ties]
+
+
+def classes(places, together):
+    """The rising tuples of places that are together."""
+    return sorted({tuple(b for b in sorted(places) if (a, b) in together and (b, a) in together) for a in places})
+
+
+def other_names(web):
+    """Another name for each place, in another order than the places' own."""
+    places = web.places()
+    return {place: "zyxwvutsrqpo"[at] + "q" for at, place in enumerate(places)}
+
+
+def with_names(web, names):
+    places = [names[place] for place in web.places()]
+    return Web(places, [(names[a], names[b]) for a, b in web.ties()])
+
+
+def all_turned(web):
+    return Web(web.places(), [(b, a) for a, b in web.ties()])
+
+
+def put(names, places):
+    """A rising tuple of places, under their other names."""
+    return tuple(sorted(names[place] for place in places))
+
+
+def put_all(names, tuples):
+    return sorted(put(names, places) for places in tuples)
+
+
+def state(web):
+    return (web.places(), web.ties(), web.many())
