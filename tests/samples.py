@@ -125,3 +125,23 @@ def put_all(names, tuples):
 
 def state(web):
     return (web.places(), web.ties(), web.many())
+
+
+def plain_cuts(web):
+    """All cuts of a web, by trying all sets of places."""
+    places = web.places()
+    found = []
+    for many in range(1, len(places)):
+        for some in itertools.combinations(places, many):
+            if all(b in some for a, b in web.ties() if a in some):
+                found.append(some)
+    return sorted(found)
+
+
+def plain_pieces(web, among):
+    ties = [(a, b) for a, b in web.ties() if a in among and b in among]
+    return classes(among, plain_reach(among, both_ways(ties)))
+
+
+def others(web, places):
+    return tuple(place for place in web.places() if place not in places)
