@@ -79,6 +79,38 @@ def all_webs(seed=1, many=120):
     return named_webs() + chance_webs(seed, many)
 
 
+def hanging(webs):
+    """Those of the webs that have one piece."""
+    return [web for web in webs if len(plain_pieces(web, web.places())) == 1]
+
+
+def hanging_web(chance, most, ties):
+    """A web that hangs, most of its ties in one sense, so that it has cuts, told by a seeded source."""
+    places = list("abcdefghijkl"[:chance.randint(2, most)])
+    chance.shuffle(places)
+    pairs = [(chance.choice(places[:at]), places[at]) for at in range(1, len(places))]
+    while len(pairs) < ties and chance.random() < 0.8:
+        pairs.append((chance.choice(places), chance.choice(places)))
+    # Mostly along the letters, so that there are few rings.
+    pairs = [tuple(sorted(pair, reverse=chance.random() < 0.15)) for pair in pairs]
+    chance.shuffle(pairs)
+    return Web(places, pairs)
+
+
+def hanging_webs(seed, many, most=6, ties=10):
+    """Webs that hang: the named ones, and some that a seeded source picks."""
+    chance = random.Random(seed)
+    return hanging(named_webs()) + [hanging_web(chance, most, ties) for each in range(many)]
+
+
+def apart():
+    """Webs that do not hang."""
+    return [
+        make("a b", ""), make("a b c", "bc"), make("a b c d", "ab ba cd"), make("a b c d e f", "ac ca bd ef fe"),
+        make("b a c", "bc aa"), make("a b c", "ab ba"),
+    ]
+
+
 def plain_reach(places, ties):
     """Which pairs (a, b) there are such that a reaches b, with the fewest ties that it takes."""
     far = {(a, b): 0 if a == b else 99 for a in places for b in places}
@@ -145,3 +177,50 @@ def plain_pieces(web, among):
 
 def others(web, places):
     return tuple(place for place in web.places() if place not in places)
+
+
+def plain_ties(web, cut):
+    """The ties of a cut, by a look at each."""
+    return [k for k, (a, b) in enumerate(web.ties()) if a not in cut and b in cut]
+
+
+def plain_cross(web, cut, other):
+    one, two, places = set(cut), set(other), set(web.places())
+    return bool(one & two and one - two and two - one and places - one - two)
+
+
+def families(web, seed, many, most=8):
+    """Some families of cuts of the web, with cuts more than once, and the empty one."""
+    cuts = plain_cuts(web)
+    chance = random.Random(seed)
+    picked = [[chance.choice(cuts) for each in range(chance.randint(1, most))] for one in range(many)] if cuts else []
+    return [[]] + picked
+
+
+def no_cuts():
+    """Things that are no cut of any web with the places a to e, but as these themselves may be."""
+    return [
+        (), ["a"], "a", "ab", None, 0, True, ("z",), ("b", "a"), ("a", "a"), ("a", None), ("a", []), ({},), (("a",),),
+        ("a", Stubborn()), {"a": True}, ("a", "b", "c", "d", "e", "f", "g"), Stubborn(), endless(), 10 ** 40,
+    ]
+
+
+def not_ties(many):
+    """Things that are no list of ties of a web of so many ties, three at least."""
+    return [
+        [1, 0], [0, 0], [0, 2, 1], [0, 1, 1], [True], [False], [0, True], [False, 1], [-1], [-1, 0], [many], [0, many],
+        [10 ** 40], [-(10 ** 40)], ["0"], [0, "1"], [None], [0, None], [[]], [[0]], [(0,)], [{}], [0, Stubborn()],
+        [Stubborn()], [b"0"], [1j], list(range(many + 1)), list(range(many)) * 2, [0] * 100000, (0,), (), "", "0", "01",
+        None, True, False, 0, 1, {}, {0: 1}, {0}, set(), range(2), b"", b"0", endless(), object(), Stubborn(), iter([0]),
+        bytearray(b""), len, 10 ** 40,
+    ] + [thing for thing in odd_things() if repr(thing) not in ("[]", "[0]")]
+
+
+def plain_meets(cuts_ties, ties):
+    """Whether these ties have one in each of the cuts, told by their ties."""
+    return all(any(k in ties for k in held) for held in cuts_ties)
+
+
+def all_lists(many):
+    """All lists of ties of a web of so many ties, the shorter ones first."""
+    return [list(some) for size in range(many + 1) for some in itertools.combinations(range(many), size)]

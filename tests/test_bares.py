@@ -3,10 +3,9 @@ import unittest
 from cutmeet.bares import is_bare, parted
 from cutmeet.cuts import all_cuts, is_cut, ties_of
 from cutmeet.errors import Apart, NoCut
-from cutmeet.ways import hangs
 from samples import (
-    Stubborn, all_turned, all_webs, chance_webs, make, named_webs, odd_things, other_names, others, plain_pieces, put,
-    put_all, state, with_names,
+    Stubborn, all_turned, all_webs, apart, chance_webs, hanging, make, named_webs, odd_things, other_names, others,
+    plain_pieces, put, put_all, state, with_names,
 )
 
 # Ties lead from the even ones of a path of places to the odd ones at their sides.
@@ -15,17 +14,6 @@ NO_CUTS = [
     (), ("a",), ("a", "b", "c", "d", "e"), ("d", "b"), ("b", "b"), ["b"], "b", None, 0, True, ("z",), ("b", None),
     ("b", []), ({},), (("b",),), ("b", Stubborn()), {"b": True},
 ]
-
-
-def hanging(webs):
-    return [web for web in webs if hangs(web)]
-
-
-def apart():
-    return [
-        make("a b", ""), make("a b c", "bc"), make("a b c d", "ab ba cd"), make("a b c d e f", "ac ca bd ef fe"),
-        make("b a c", "bc aa"), make("a b c", "ab ba"),
-    ]
 
 
 class Bares(unittest.TestCase):
