@@ -3,6 +3,7 @@
 import itertools
 import random
 
+from cutmeet.errors import Apart, NoMeeter, NoTie
 from cutmeet.webs import Web
 
 
@@ -224,3 +225,85 @@ def plain_meets(cuts_ties, ties):
 def all_lists(many):
     """All lists of ties of a web of so many ties, the shorter ones first."""
     return [list(some) for size in range(many + 1) for some in itertools.combinations(range(many), size)]
+
+
+def held_ties(web):
+    """Of each cut its ties."""
+    return [plain_ties(web, cut) for cut in plain_cuts(web)]
+
+
+def plain_meeters(web):
+    """All meeters of a small web, the shorter ones first."""
+    held = held_ties(web)
+    return [ties for ties in all_lists(web.many()) if plain_meets(held, ties)]
+
+
+def plain_tights(web, ties):
+    """All cuts that have just one of these ties."""
+    return [cut for cut in plain_cuts(web) if len([k for k in plain_ties(web, cut) if k in ties]) == 1]
+
+
+def lean_list(web, chance):
+    """A meeter of which a seeded source has left out what it could, but for a few."""
+    held = held_ties(web)
+    ties = list(range(web.many()))
+    for k in chance.sample(ties, len(ties)):
+        without = [other for other in ties if other != k]
+        if chance.random() < 0.9 and plain_meets(held, without):
+            ties = without
+    return ties
+
+
+def large_webs(seed, many):
+    """Webs of twelve places and thirty ties that hang, with few rings or none, told by a seeded source."""
+    chance = random.Random(seed)
+    found = []
+    for each in range(many):
+        places = list("abcdefghijkl")
+        pairs = [(chance.choice(places[:at]), places[at]) for at in range(1, 12)]
+        wide = chance.choice([2, 4, 11])
+        while len(pairs) < 30:
+            at = chance.randrange(11)
+            pairs.append((places[at], places[min(11, at + chance.randint(1, wide))]))
+        turn = chance.choice([0, 0.05, 0.1])
+        pairs = [pair[::-1] if chance.random() < turn else pair for pair in pairs]
+        chance.shuffle(pairs)
+        found.append(with_names(Web(places, pairs), dict(zip(places, chance.sample(places, 12)))))
+    return found
+
+
+class Refusals:
+    """What is refused with Apart, NoTie and NoMeeter, in this order, by whatever asks for a meeter; for test cases.
+
+    An ask is a def of a web and a list of ties.
+    """
+
+    def refuse_apart(self, ask):
+        for web in apart():
+            for thing in [[]] + not_ties(web.many()):
+                with self.assertRaises(Apart) as taken:
+                    ask(web, thing)
+                self.assertIn(taken.exception.cut, plain_cuts(web))
+                self.assertEqual(plain_ties(web, taken.exception.cut), [])
+
+    def refuse_no_tie(self, ask):
+        for web in [make("a b c d", "ab bc cd"), make("a b c", "ab bc ca"), make("a b", "ab ba ab")]:
+            for thing in not_ties(web.many()):
+                with self.assertRaises(NoTie):
+                    ask(web, thing)
+
+    def refuse_no_meeter(self, ask):
+        for web in hanging_webs(64, 25, 5, 6):
+            held = held_ties(web)
+            for ties in all_lists(web.many()):
+                if not plain_meets(held, ties):
+                    with self.assertRaises(NoMeeter) as taken:
+                        ask(web, ties)
+                    cut = taken.exception.cut
+                    self.assertIn(cut, plain_cuts(web))
+                    self.assertEqual([k for k in plain_ties(web, cut) if k in ties], [])
+
+    def refuse_all(self, ask):
+        self.refuse_apart(ask)
+        self.refuse_no_tie(ask)
+        self.refuse_no_meeter(ask)
