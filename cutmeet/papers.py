@@ -10,11 +10,8 @@ from cutmeet.tights import tights_by_place
 from cutmeet.ways import hangs
 
 
-def prices(web, ties, counts):
-    """A price for each place: along a tie it falls by what the tie counts at most, along one of the meeter by just
-    that, and it does not rise to where the place goes over. There are such of a lightest meeter alone."""
-    every = list(range(web.many()))
-    steps = free_steps(web, ties) + steps_back(web, every, counts) + steps_along(web, ties, counts)
+def prices(web, steps):
+    """For each place the least for which one comes there by these steps, from wherever one begins."""
     best = cheapest(steps, {place: (0, 0) for place in web.places()})[0]
     return {place: best[place][0] for place in web.places()}
 
@@ -28,14 +25,22 @@ def levels(web, price):
     return found
 
 
-def timed_cuts(web, ties, counts):
-    """For a lightest meeter tight cuts with times that come to just what each of its ties counts, rising."""
-    tights = tights_by_place(web, ties)
+def parted_levels(web, tights, steps):
+    """Tight cuts with times that come, for each tie, to how far prices by these steps fall along it, rising."""
+    # By free steps prices do not rise to where a place goes over: so each level is parted by tight cuts.
+    price = prices(web, free_steps(web, tights) + steps)
     times = {}
-    for level, rise in levels(web, prices(web, ties, counts)):
+    for level, rise in levels(web, price):
         for cut in parts_by(web, tights, level):
             times[cut] = times.get(cut, 0) + rise
     return sorted(times.items())
+
+
+def timed_cuts(web, ties, counts):
+    """For a lightest meeter tight cuts with times that come to just what each of its ties counts, rising."""
+    # So prices fall along a tie by what it counts at most, along one of the meeter by just that.
+    steps = steps_back(web, list(range(web.many())), counts) + steps_along(web, ties, counts)
+    return parted_levels(web, tights_by_place(web, ties, 1), steps)
 
 
 def paper_with(web, ties):
@@ -60,7 +65,7 @@ def parted_by(web, ties, cut):
     """Cuts that are tight for the meeter and share no tie, with just the ties of the cut, rising, or None."""
     check_meeter(web, ties)
     check_cut(web, cut)
-    return parts_by(web, tights_by_place(web, ties), cut)
+    return parts_by(web, tights_by_place(web, ties, 1), cut)
 
 
 def has_meeter(web, thing):

@@ -2,13 +2,17 @@
 
 from cutmeet.bares import check_hangs
 from cutmeet.meeters import check_meeter
-from cutmeet.tights import overs
+from cutmeet.tights import had_by_all, tights_by_place, without
 
 
-def free_steps(web, ties):
-    """Steps for nothing, from each place to those to which it goes over."""
-    found = overs(web, ties)
-    return [(a, b, 0, None) for a in web.places() for b in found[a] if a != b]
+def free_steps(web, tights):
+    """Steps for nothing, from each place to what lies in all its tight cuts."""
+    return [(a, b, 0, None) for a in web.places() for b in had_by_all(web, tights[a]) if a != b]
+
+
+def unlisted(web, ties):
+    """The numbers of all other ties of the web, rising."""
+    return [k for k in range(web.many()) if k not in ties]
 
 
 def steps_back(web, numbers, counts):
@@ -49,12 +53,11 @@ def gone_on(came, start, end):
     return gone
 
 
-def with_count(web, ties, counts, k):
-    """The meeter as it is to be once its tie k counts what it counts, too."""
+def with_count(web, ties, counts, k, need):
+    """The list of ties as it is to be once its tie k counts what it counts, too."""
     end, start = web.tie(k)
-    unused = [other for other in range(web.many()) if other not in ties]
-    used = [other for other in ties if other != k]
-    steps = free_steps(web, ties) + steps_back(web, unused, counts) + steps_along(web, used, counts)
+    steps = free_steps(web, tights_by_place(web, ties, need))
+    steps += steps_back(web, unlisted(web, ties), counts) + steps_along(web, without(ties, k), counts)
     # Of ways that cost alike one of the fewest steps is taken: by others cuts might come to be missed.
     best, came = cheapest(steps, {start: (0, 0)})
     if end not in best or best[end][0] >= counts[k]:
@@ -62,20 +65,21 @@ def with_count(web, ties, counts, k):
     return sorted(set(ties) ^ set([k] + gone_on(came, start, end)))
 
 
-def lightest_by(web, counts):
-    """A meeter of a web that hangs whose ties count as little as those of any."""
+def lightest_by(web, counts, need):
+    """A list of ties that count as little as those of any that meets every cut so many times as are needed.
+    All ties of the web must do so."""
     ties = list(range(web.many()))
     so_far = [0] * web.many()
     for k, count in enumerate(counts):
         so_far[k] = count
         if k in ties and count > 0:
-            ties = with_count(web, ties, so_far, k)
+            ties = with_count(web, ties, so_far, k, need)
     return ties
 
 
 def fewest_of(web):
     """A fewest meeter of a web that hangs."""
-    return lightest_by(web, [1] * web.many())
+    return lightest_by(web, [1] * web.many(), 1)
 
 
 def fewest(web):

@@ -4,7 +4,8 @@ from cutmeet.bares import check_hangs
 from cutmeet.errors import NoTie
 from cutmeet.meeters import check_list, check_meeter, check_meets, freed, missed_by
 from cutmeet.names import is_whole
-from cutmeet.ways import spread
+from cutmeet.narrows import narrowest
+from cutmeet.ways import reached, spread
 from cutmeet.webs import check_place
 
 
@@ -25,27 +26,27 @@ def wanted_of(web, ties):
     return [k for k in ties if least_tight(web, ties, k) is not None]
 
 
-def tights_by_place(web, ties):
-    """For each place, and each tie of the meeter, the least tight cut with the tie that has the place, if any."""
-    found = {place: [] for place in web.places()}
-    for k in wanted_of(web, ties):
-        steps = freed(web, without(ties, k))
-        for place in web.places():
-            inside = spread(steps, place)
-            if len(inside) < len(web.places()):
-                found[place].append(tuple(inside))
+def tights_at(web, ties, place, need):
+    """Some cuts with just so many of the ties, all having the place: what these have in common all such cuts have.
+    There must be no cut with fewer of the ties than are needed."""
+    below = reached(web, place)
+    found = []
+    for other in web.places():
+        if other not in below and all([other in cut for cut in found]):
+            cut = narrowest(web, ties, place, other, need)
+            if cut is not None:
+                found.append(cut)
     return found
+
+
+def tights_by_place(web, ties, need):
+    """For each place such cuts."""
+    return {place: tights_at(web, ties, place, need) for place in web.places()}
 
 
 def had_by_all(web, cuts):
     """The places that all these cuts have: all places where there are no cuts."""
     return [place for place in web.places() if all([place in cut for cut in cuts])]
-
-
-def overs(web, ties):
-    """For each place those to which it goes over, rising."""
-    tights = tights_by_place(web, ties)
-    return {place: had_by_all(web, tights[place]) for place in web.places()}
 
 
 def wanted(web, ties):
@@ -68,7 +69,7 @@ def goes_over(web, ties, place):
     """All places to which the place goes over, rising."""
     check_meeter(web, ties)
     check_place(web, place)
-    return overs(web, ties)[place]
+    return had_by_all(web, tights_at(web, ties, place, 1))
 
 
 def exchanges(web, ties):

@@ -22,7 +22,7 @@ def lightest(web, weights):
     """A meeter that weighs as little as any does."""
     check_hangs(web)
     check_weights(web, weights)
-    return lightest_by(web, weights)
+    return lightest_by(web, weights, 1)
 
 
 def weight_of(weights, ties):

@@ -307,3 +307,86 @@ class Refusals:
         self.refuse_apart(ask)
         self.refuse_no_tie(ask)
         self.refuse_no_meeter(ask)
+
+
+def spoil(chance, deed, ties, rows, cuts):
+    """Change one thing of a paper's ties and cuts with times, by one of four deeds."""
+    if deed == 0 and rows:
+        at = chance.randrange(len(rows))
+        rows[at] = (rows[at][0], rows[at][1] + chance.choice([-1, 1]))
+    elif deed == 1 and cuts:
+        rows.append((chance.choice(cuts), 1))
+        rows.sort()
+    elif deed == 2 and rows:
+        rows.pop(chance.randrange(len(rows)))
+    elif deed == 3 and ties:
+        ties.pop(chance.randrange(len(ties)))
+
+
+class Growing:
+    """A flat web that grows by ties drawn within one of its faces; for test cases."""
+
+    def __init__(self):
+        self.rows = [[]]
+        self.ties = []
+
+    def corners(self):
+        """The faces, each as a list of corners (place, at): a tie may be put in ahead of what stands there."""
+        spots = {end: (place, at) for place, row in enumerate(self.rows) for at, end in enumerate(row)}
+        if not spots:
+            return [[(0, 0)]]
+        left, found = set(spots), []
+        while left:
+            end = first = min(left)
+            face = []
+            while True:
+                left.discard(end)
+                face.append(spots[end])
+                place, at = spots[end[0], 1 - end[1]]
+                end = self.rows[place][(at + 1) % len(self.rows[place])]
+                if end == first:
+                    break
+            found.append(face)
+        return found
+
+    def sprout(self, chance):
+        """A new place, with a tie from or to it."""
+        place, at = chance.choice(chance.choice(self.corners()))
+        side, k, fresh = chance.randrange(2), len(self.ties), len(self.rows)
+        self.rows[place].insert(at, (k, side))
+        self.rows.append([(k, 1 - side)])
+        self.ties.append((place, fresh) if side == 0 else (fresh, place))
+
+    def span(self, chance):
+        """A new tie across a face, perhaps from a corner to itself."""
+        face = chance.choice(self.corners())
+        one, other = chance.choice(face), chance.choice(face)
+        side, k = chance.randrange(2), len(self.ties)
+        ends = [(one, (k, side)), (other, (k, 1 - side))]
+        for (place, at), end in sorted(ends, key=lambda row: row[0][1], reverse=True):
+            self.rows[place].insert(at, end)
+        self.ties.append((one[0], other[0]) if side == 0 else (other[0], one[0]))
+
+    def told(self, chance):
+        """The web and its turns, each list from any end on."""
+        names = chance.sample("abcdefghijkl", len(self.rows))
+        web = Web(names, [(names[a], names[b]) for a, b in self.ties])
+        rows = [self.rows[names.index(name)] for name in web.places()]
+        cuts = [chance.randrange(len(row)) if row else 0 for row in rows]
+        return (web, [row[at:] + row[:at] for row, at in zip(rows, cuts)])
+
+
+def flat_pair(chance, places, faces):
+    """A web with turns that make it flat, of so many places and faces, told by a seeded source."""
+    deeds = ["sprout"] * (places - 1) + ["span"] * (faces - 1)
+    chance.shuffle(deeds)
+    growing = Growing()
+    for deed in deeds:
+        growing.sprout(chance) if deed == "sprout" else growing.span(chance)
+    return growing.told(chance)
+
+
+def flat_pairs(seed, many, places=6, faces=6):
+    """Some webs with turns that make them flat, of so many places and faces at most."""
+    chance = random.Random(seed)
+    return [flat_pair(chance, chance.randint(1, places), chance.randint(1, faces)) for each in range(many)]

@@ -7,7 +7,7 @@ from cutmeet.rounds import how_few
 from cutmeet.weights import full_paper, how_light, is_full_paper, lightest
 from samples import (
     Stubborn, all_turned, apart, endless, hanging_webs, large_webs, make, odd_things, other_names, others, plain_cuts,
-    plain_meeters, plain_ties, put, state, with_names,
+    plain_meeters, plain_ties, put, spoil, state, with_names,
 )
 
 MOST = 999999999999
@@ -195,17 +195,8 @@ class IsFullPaper(unittest.TestCase):
             for each in range(3):
                 ties, rows = full_paper(web, weights)
                 deed = chance.randrange(6)
-                if deed == 0 and rows:
-                    at = chance.randrange(len(rows))
-                    rows[at] = (rows[at][0], rows[at][1] + chance.choice([-1, 1]))
-                elif deed == 1 and cuts:
-                    rows.append((chance.choice(cuts), 1))
-                    rows.sort()
-                elif deed == 2 and rows:
-                    rows.pop(chance.randrange(len(rows)))
-                elif deed == 3 and ties:
-                    ties.pop(chance.randrange(len(ties)))
-                elif deed == 4:
+                spoil(chance, deed, ties, rows, cuts)
+                if deed == 4:
                     ties = sorted(set(ties) | {k for k in range(web.many()) if weights[k] == 0})
                 due = plain_full_paper(web, weights, (ties, rows))
                 seen[due] += 1
