@@ -3,16 +3,16 @@
 from cutmeet.bares import check_hangs
 from cutmeet.changes import without_tie
 from cutmeet.errors import Bridge
-from cutmeet.meeters import check_list, check_meeter, missed_by
+from cutmeet.meeters import check_list, check_meeter, is_meeter, missed_by
 from cutmeet.rounds import fewest_of
-from cutmeet.tights import wanted, without
+from cutmeet.tights import wanted_of, without
 from cutmeet.ways import hangs
 from cutmeet.webs import Web
 
 
 def is_lean(web, ties):
-    """Whether each tie of a list that meets every cut is wanted."""
-    return wanted(web, ties) == ties
+    """Whether the ties meet every cut, and each of them is wanted."""
+    return is_meeter(web, ties) and wanted_of(web, ties) == ties
 
 
 def made_lean(web, ties):

@@ -39,6 +39,15 @@ def small_webs(seed, many=70, ties=7):
     return hanging_webs(seed, many, 6, ties)
 
 
+def lean_of(web):
+    return made_lean(web, list(range(web.many())))
+
+
+def short_of_one(ties):
+    """The lists that lack just one of these ties."""
+    return [[one for one in ties if one != k] for k in ties]
+
+
 class Lean(Refusals, unittest.TestCase):
     def test_some(self):
         self.assertIs(is_lean(LINE, [0, 1, 2]), True)
@@ -75,9 +84,29 @@ class Lean(Refusals, unittest.TestCase):
                 self.assertIs(is_lean(web, told), True)
         self.assertGreater(min(seen.values()), 100)
 
+    def test_what_misses_a_cut_is_not_lean(self):
+        self.assertIs(is_lean(LINE, []), False)
+        self.assertIs(is_lean(ROUND, [0]), False)
+        self.assertIs(is_lean(ties=[0, 2], web=ROUND), False)
+        # The tie lies in no cut, so that it is not wanted either.
+        self.assertIs(is_lean(make("a b", "aa ab"), [0]), False)
+        seen = 0
+        for web in small_webs(190) + large_webs(191, 10):
+            held = held_ties(web)
+            for ties in all_lists(web.many()) if web.many() < 8 else short_of_one(lean_of(web)):
+                if not plain_meets(held, ties):
+                    kept = list(ties)
+                    self.assertIs(is_lean(web, ties), False)
+                    self.assertIs(is_lean(ties=ties, web=web), False)
+                    self.assertEqual(ties, kept)
+                    seen += 1
+        self.assertGreater(seen, 1000)
+
     def test_refused(self):
-        for ask in [is_lean, made_lean, lambda web, ties: is_lean(ties=ties, web=web),
-                    lambda web, ties: made_lean(ties=ties, web=web)]:
+        for ask in [is_lean, lambda web, ties: is_lean(ties=ties, web=web)]:
+            self.refuse_apart(ask)
+            self.refuse_no_tie(ask)
+        for ask in [made_lean, lambda web, ties: made_lean(ties=ties, web=web)]:
             self.refuse_all(ask)
 
 
